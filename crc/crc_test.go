@@ -8,6 +8,7 @@ import (
 	"testing"
 
 	"newsreel/crc"
+	"newsreel/sample"
 )
 
 // known: bytes and their checksums, as they are told elsewhere.
@@ -42,16 +43,6 @@ func slow(b []byte) uint32 {
 	return ^r
 }
 
-// mixed: n bytes of all kinds; another seed, other bytes.
-func mixed(n int, seed uint32) []byte {
-	b := make([]byte, n)
-	for i := range b {
-		seed = seed*1664525 + 1013904223
-		b[i] = byte(seed >> 24)
-	}
-	return b
-}
-
 // P2.1: Sum is the checksum of the standard.
 func TestSum(t *testing.T) {
 	for _, x := range known {
@@ -69,12 +60,12 @@ func TestSum(t *testing.T) {
 		}
 	}
 	for n := range 300 {
-		b := mixed(n, uint32(n))
+		b := sample.Bytes(n, uint32(n))
 		if s := crc.Sum(b); s != slow(b) || s != crc32.ChecksumIEEE(b) {
 			t.Errorf("Sum of %d bytes: %#x, not %#x", n, s, slow(b))
 		}
 	}
-	long := mixed(1<<20+3, 7)
+	long := sample.Bytes(1<<20+3, 7)
 	if s := crc.Sum(long); s != crc32.ChecksumIEEE(long) {
 		t.Errorf("Sum of %d bytes: %#x", len(long), s)
 	}
@@ -99,7 +90,7 @@ func TestSumOfNothing(t *testing.T) {
 
 // P2.1: wherever it is cut, Sum of the parts is that of the whole.
 func TestSumOfParts(t *testing.T) {
-	b := mixed(60, 1)
+	b := sample.Bytes(60, 1)
 	want := slow(b)
 	for i := range len(b) + 1 {
 		for k := i; k <= len(b); k++ {
@@ -128,7 +119,7 @@ func TestSumOfParts(t *testing.T) {
 
 // P2.1: More goes on where the checksum was left.
 func TestMore(t *testing.T) {
-	b := mixed(80, 2)
+	b := sample.Bytes(80, 2)
 	for i := range len(b) + 1 {
 		if s := crc.More(slow(b[:i]), b[i:]); s != slow(b) {
 			t.Errorf("More from %d on: %#x, not %#x", i, s, slow(b))
@@ -154,8 +145,8 @@ func TestMoreOfNothing(t *testing.T) {
 // P2.1, rule 1: each number is the Sum of some bytes, so More goes on from all of them.
 func TestMoreFromAnySum(t *testing.T) {
 	for i := range 1000 {
-		b := mixed(4, uint32(i))
-		more := mixed(i%9, uint32(i)+77)
+		b := sample.Bytes(4, uint32(i))
+		more := sample.Bytes(i%9, uint32(i)+77)
 		if s, want := crc.More(slow(b), more), crc32.Update(slow(b), crc32.IEEETable, more); s != want {
 			t.Errorf("More from %#x: %#x, not %#x", slow(b), s, want)
 		}
@@ -178,7 +169,7 @@ func TestSeal(t *testing.T) {
 		t.Errorf("Seal of nil: %x", b)
 	}
 	for n := range 200 {
-		b := mixed(n, 3)
+		b := sample.Bytes(n, 3)
 		s := slow(b)
 		want := append(bytes.Clone(b), byte(s>>24), byte(s>>16), byte(s>>8), byte(s))
 		if got := crc.Seal(b); !bytes.Equal(got, want) {
@@ -190,7 +181,7 @@ func TestSeal(t *testing.T) {
 // P2.1: what is sealed is opened, and is what it was.
 func TestOpen(t *testing.T) {
 	for n := range 200 {
-		b := mixed(n, 4)
+		b := sample.Bytes(n, 4)
 		if got, is := crc.Open(crc.Seal(b)); !is || !bytes.Equal(got, b) {
 			t.Errorf("Open of %d bytes, sealed: %x, %v", n, got, is)
 		}
@@ -233,7 +224,7 @@ func TestOpenOfFew(t *testing.T) {
 // P2.1: one byte changed anywhere, added or taken away, isn't opened.
 func TestOpenOfChanged(t *testing.T) {
 	for _, n := range []int{0, 1, 3, 4, 5, 31} {
-		sealed := crc.Seal(mixed(n, 5))
+		sealed := crc.Seal(sample.Bytes(n, 5))
 		for i := range sealed {
 			for c := 1; c < 256; c++ {
 				b := bytes.Clone(sealed)
@@ -253,7 +244,7 @@ func TestOpenOfChanged(t *testing.T) {
 // Rule 3: what is handed in stays, the room behind it too, and what is answered is new.
 func TestNothingShared(t *testing.T) {
 	for n := range 20 {
-		room := mixed(n+9, 6)
+		room := sample.Bytes(n+9, 6)
 		kept := bytes.Clone(room)
 		sealed := crc.Seal(room[:n])
 		clear(sealed[:cap(sealed)])
@@ -263,7 +254,7 @@ func TestNothingShared(t *testing.T) {
 			t.Fatalf("%d bytes were handed in, and are %x now, not %x", n, room, kept)
 		}
 
-		room = slices.Concat(crc.Seal(mixed(n, 6)), mixed(9, 8))
+		room = slices.Concat(crc.Seal(sample.Bytes(n, 6)), sample.Bytes(9, 8))
 		kept = bytes.Clone(room)
 		opened, is := crc.Open(room[:n+4])
 		if !is {
@@ -274,9 +265,9 @@ func TestNothingShared(t *testing.T) {
 			t.Fatalf("Open of %d bytes: they are %x now, not %x", n, room, kept)
 		}
 	}
-	parts := [][]byte{mixed(3, 1), nil, mixed(5, 2), mixed(4, 3)}
+	parts := [][]byte{sample.Bytes(3, 1), nil, sample.Bytes(5, 2), sample.Bytes(4, 3)}
 	crc.Sum(parts[:3]...)
-	for i, want := range [][]byte{mixed(3, 1), nil, mixed(5, 2), mixed(4, 3)} {
+	for i, want := range [][]byte{sample.Bytes(3, 1), nil, sample.Bytes(5, 2), sample.Bytes(4, 3)} {
 		if !bytes.Equal(parts[i], want) {
 			t.Errorf("Sum changed part %d to %x", i, parts[i])
 		}
@@ -303,7 +294,7 @@ func TestBursts(t *testing.T) {
 		patterns = append(patterns, 1|1<<k, math.MaxUint32>>k)
 	}
 	for _, n := range []int{1, 2, 3, 4, 5, 40} {
-		b := mixed(n, 9)
+		b := sample.Bytes(n, 9)
 		s := crc.Sum(b)
 		for at := range 8 * n {
 			for _, p := range append(patterns, uint32(at)*2654435761|1) {
@@ -317,13 +308,13 @@ func TestBursts(t *testing.T) {
 
 // P2.2: up to four bytes in a row, changed to others.
 func TestBytesInARow(t *testing.T) {
-	b := mixed(24, 10)
+	b := sample.Bytes(24, 10)
 	s := crc.Sum(b)
 	for size := 1; size <= 4; size++ {
 		for at := range len(b) - size + 1 {
 			for seed := range uint32(200) {
 				x := bytes.Clone(b)
-				copy(x[at:], mixed(size, seed))
+				copy(x[at:], sample.Bytes(size, seed))
 				if same := bytes.Equal(x, b); (crc.Sum(x) == s) != same {
 					t.Errorf("%d bytes from %d on changed to %x: Sum is the same", size, at, x[at:at+size])
 				}
@@ -336,7 +327,7 @@ func TestBytesInARow(t *testing.T) {
 // of each of its bits alone, and no one of these 32 is made of the others.
 func TestBitsApart(t *testing.T) {
 	for _, n := range []int{4, 5, 33} {
-		b := mixed(n, 11)
+		b := sample.Bytes(n, 11)
 		s := crc.Sum(b)
 		for at := range 8*n - 31 {
 			var rows []uint32
